@@ -19,6 +19,11 @@ OWN_NAMES = (
     "repr any all divmod Exception ValueError TypeError KeyError IndexError LookupError ZeroDivisionError "
     "ArithmeticError OverflowError RuntimeError NotImplementedError AttributeError StopIteration").split()
 OWN_METHODS = ("__init__", "__eq__", "__repr__", "__str__", "__len__")
+METHODS_OF_VALUES = (
+    "append clear copy count endswith extend find get index insert isalnum isalpha isdigit islower isspace isupper "
+    "items join keys ljust lower lstrip partition pop remove replace reverse rfind rjust rpartition rsplit rstrip "
+    "setdefault split splitlines startswith strip update upper values zfill bit_length").split()
+WALKED_AT_ONCE = ("zip", "enumerate", "reversed", "range", "items", "keys", "values")
 
 
 def files():
@@ -35,6 +40,23 @@ def nodes():
     for name, text in texts():
         for node in ast.walk(ast.parse(text)):
             yield name, node
+
+
+def classes():
+    for name, node in nodes():
+        if isinstance(node, ast.ClassDef):
+            yield node
+
+
+def methods():
+    return [node.name for made in classes() for node in made.body if isinstance(node, ast.FunctionDef)]
+
+
+def called(node):
+    """The name of what a call calls, or None where it has none."""
+    if not isinstance(node, ast.Call):
+        return None
+    return getattr(node.func, "id", getattr(node.func, "attr", None))
 
 
 class FormTest(unittest.TestCase):
@@ -85,6 +107,69 @@ class FormTest(unittest.TestCase):
         for name, node in nodes():
             if isinstance(node, ast.Name):
                 self.assertNotIn(node.id, others, name)
+
+    def test_no_name_is_a_method_and_a_value(self):
+        values = [node.attr for name, node in nodes()
+                  if isinstance(node, ast.Attribute) and isinstance(node.ctx, ast.Store)]
+        self.assertEqual(sorted(set(values) & set(methods())), [])
+
+    def test_methods_that_are_called(self):
+        known = METHODS_OF_VALUES + methods()
+        for name, node in nodes():
+            if isinstance(node, ast.Call) and isinstance(node.func, ast.Attribute):
+                self.assertIn(node.func.attr, known, (name, node.lineno))
+
+    def test_is_stands_beside_none_and_the_truths(self):
+        for name, node in nodes():
+            if isinstance(node, ast.Compare) and isinstance(node.ops[0], (ast.Is, ast.IsNot)):
+                self.assertIsInstance(node.comparators[0], ast.Constant, (name, node.lineno))
+
+    def test_locals_are_not_called_like_names_of_pythons_own_or_imports(self):
+        for name, text in texts():
+            tree = ast.parse(text)
+            bound = dir(__import__("builtins")) + [
+                entry.name for node in tree.body if isinstance(node, ast.ImportFrom) for entry in node.names]
+            for node in ast.walk(tree):
+                if isinstance(node, ast.Name) and isinstance(node.ctx, ast.Store):
+                    self.assertNotIn(node.id, bound, (name, node.lineno))
+                if isinstance(node, ast.arg):
+                    self.assertNotIn(node.arg, bound, (name, node.lineno))
+                    self.assertIsNone(node.annotation, (name, node.lineno))
+
+    def test_comprehensions_have_one_for_and_loops_no_else(self):
+        for name, node in nodes():
+            if isinstance(node, ast.ListComp):
+                self.assertEqual(len(node.generators), 1, (name, node.lineno))
+                self.assertLessEqual(len(node.generators[0].ifs), 1, (name, node.lineno))
+            if isinstance(node, (ast.For, ast.While)):
+                self.assertEqual(node.orelse, [], (name, node.lineno))
+            if isinstance(node, ast.Assign):
+                self.assertEqual(len(node.targets), 1, (name, node.lineno))
+
+    def test_f_strings_hold_plain_names(self):
+        for name, node in nodes():
+            if isinstance(node, ast.FormattedValue):
+                self.assertIsInstance(node.value, ast.Name, (name, node.lineno))
+                self.assertIsNone(node.format_spec, (name, node.lineno))
+
+    def test_what_is_walked_at_once_and_sets_are_not_kept(self):
+        for name, node in nodes():
+            if isinstance(node, (ast.Assign, ast.Return)):
+                self.assertNotIn(called(node.value), WALKED_AT_ONCE + ("set", "frozenset"), (name, node.lineno))
+            if isinstance(node, ast.For):
+                self.assertNotIn(called(node.iter), ("set", "frozenset"), (name, node.lineno))
+            self.assertNotIsInstance(node, ast.Set, name)
+
+    def test_files_draw_from_one_another_one_way(self):
+        drawn = {}
+        for name, text in texts():
+            drawn["rimnotes." + name[:-3]] = [
+                node.module for node in ast.parse(text).body if isinstance(node, ast.ImportFrom)]
+        while drawn:
+            free = [name for name in drawn if not any(module in drawn for module in drawn[name])]
+            self.assertNotEqual(free, [], drawn)
+            for name in free:
+                drawn.pop(name)
 
 
 if __name__ == "__main__":

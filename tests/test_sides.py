@@ -5,23 +5,14 @@ import unittest
 
 from rimnotes.errors import NoSide, RimError
 from rimnotes.sides import LeftSide, RightSide, Side, side_of
-
-
-class EqualToAll:
-    """A thing that calls itself equal to whatever it is held against."""
-
-    def __eq__(self, other):
-        return True
-
-    def __hash__(self):
-        return hash("left")
-
+from things import EqualToAll
 
 NO_SIDES = [
     "both", "", "Left", "LEFT", "Right", "RIGHT", "left ", " left", "left\n", "\tleft", "right ", " right", "right\n",
     "lef", "eft", "leftleft", "left right", "leftright", "l", "r", "a", "1", "up", "none",
     0, 1, -1, 2, 31, 10 ** 5000, True, False, None, ["left"], ["right"], [], ("left",), ("right",), (), ("left", 1),
-    {}, {"left": 1}, {"left": "left"}, {"left"}, b"left", object(), str, LeftSide, LeftSide(3), EqualToAll(),
+    {}, {"left": 1}, {"left": "left"}, {"left"}, b"left", object(), str, LeftSide, LeftSide(3),
+    EqualToAll("left"), EqualToAll("right"),
 ]
 
 

@@ -5,34 +5,18 @@ import string
 import unittest
 
 from rimnotes.words import is_name, is_whole
-
-
-class EqualToAll:
-    """A thing that calls itself equal to, and between, whatever it is held against."""
-
-    def __eq__(self, other):
-        return True
-
-    def __le__(self, other):
-        return True
-
-    def __ge__(self, other):
-        return True
-
-    def __len__(self):
-        return 1
-
+from things import EqualToAll
 
 MANY = 10 ** 5000
 NO_NUMBERS = [
     True, False, None, "", "0", "1", "5", "-3", "1\n", [], [1], [5], (), (1,), (5,), {}, {1: 1}, {5: 5},
-    set(), {5}, frozenset([5]), b"5", range(5), 5j, object(), int, is_whole, EqualToAll(),
+    set(), {5}, frozenset([5]), b"5", range(5), 5j, object(), int, is_whole, EqualToAll(5),
 ]
 NO_NAMES = [
     "", "ab", "az", "abc", "aa", "bcd", "A", "Z", "M", "0", "7", "9", " ", "  ", "\n", "\t", "a\n", "\na", "a ", " a",
     "a\t", "z\n", "Ab", "aB", "`", "{", "-", "_", "left",
     0, 1, 97, 122, -1, MANY, True, False, None, ["a"], [], ("a",), (), {"a": 1}, {}, {"a": "a"}, {"a"}, b"a",
-    object(), str, is_name, EqualToAll(),
+    object(), str, is_name, EqualToAll("a"),
 ]
 
 
