@@ -1,5 +1,7 @@
 """What several tests need: things of every kind, small pictures, and a plain look at what was refused."""
 
+import itertools
+import random
 import unittest
 
 from rimnotes.errors import RimError
@@ -123,3 +125,43 @@ def walked(width, x, y, side, row):
         x += -1 if side == "left" else 1
         cells.append((x, y))
     return cells
+
+
+def chance_pictures(seed, count, most_points=4, greatest=5):
+    """Small pictures of many sorts, the same ones for the same seed."""
+    chance = random.Random(seed)
+    for number in range(count):
+        width, height = chance.randint(1, greatest), chance.randint(1, greatest)
+        points = chance.randint(0, min(width, height, most_points))
+        columns = chance.sample(range(1, width + 1), points)
+        rows = chance.sample(range(1, height + 1), points)
+        picture = Picture(width, height)
+        for name, x, y in zip(chance.sample("abcdefghijklmnopqrstuvwxyz", points), columns, rows):
+            low = chance.randint(1, height)
+            window = [(), (1,), (low, chance.randint(low, height))][chance.randint(0, 2)]
+            picture.put(name, x, y, chance.choice(["left", "right", "both"]), *window)
+        many = chance.randint(1, 9)
+        for seat in rim_seats(height):
+            if chance.randint(1, 10) <= many:
+                picture.open_seat(*seat)
+        yield picture
+
+
+def names_of(picture):
+    return [point[0] for point in picture.points()]
+
+
+def all_givings(picture, names):
+    """Every giving of these points, by a plain trying of all their seats."""
+    for seats in itertools.product(*[picture.seats_for(name) for name in names]):
+        if len(set(seats)) == len(seats):
+            yield [(name, *seat) for name, seat in zip(names, seats)]
+
+
+def can_sit(picture, names):
+    return any(True for giving in all_givings(picture, names))
+
+
+def room_of(picture, names):
+    """The open seats that at least one of the points may have."""
+    return [seat for seat in picture.seats() if any(picture.may(name, *seat) for name in names)]
