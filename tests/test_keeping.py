@@ -7,15 +7,8 @@ import unittest
 from rimnotes.keeping import fits, kept, left_out
 from rimnotes.pictures import Picture
 from things import (
-    can_sit, chance_pictures, full_picture, names_of, ordinary_picture, picture_of_points, rim_seats, room_of, state)
-
-
-def plainly_kept(picture):
-    names = []
-    for name in names_of(picture):
-        if can_sit(picture, names + [name]):
-            names.append(name)
-    return names
+    can_sit, chance_pictures, full_picture, names_of, ordinary_picture, picture_of_points, plainly_kept, rim_seats,
+    room_of, state)
 
 
 def out_of(picture):

@@ -4,13 +4,7 @@ import itertools
 import unittest
 
 from rimnotes.meets import is_giving, meeting, meetings, total
-from things import ordinary_picture, picture_of_points, rim_seats, state, walked
-
-
-def first_common(width, one, other):
-    """The first cell of one walk that the other has, too; each walk is told by (x, y, side, row)."""
-    common = [cell for cell in walked(width, *one) if cell in walked(width, *other)]
-    return common[0] if common else None
+from things import first_common, ordinary_picture, picture_of_points, rim_seats, state, walked
 
 
 def small_frames():

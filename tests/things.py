@@ -127,6 +127,12 @@ def walked(width, x, y, side, row):
     return cells
 
 
+def first_common(width, one, other):
+    """The first cell of one walk that the other has, too; each walk is told by (x, y, side, row)."""
+    common = [cell for cell in walked(width, *one) if cell in walked(width, *other)]
+    return common[0] if common else None
+
+
 def chance_pictures(seed, count, most_points=4, greatest=5):
     """Small pictures of many sorts, the same ones for the same seed."""
     chance = random.Random(seed)
@@ -144,6 +150,23 @@ def chance_pictures(seed, count, most_points=4, greatest=5):
         for seat in rim_seats(height):
             if chance.randint(1, 10) <= many:
                 picture.open_seat(*seat)
+        yield picture
+
+
+def crowded_pictures(seed, count, points=3, height=4):
+    """Small pictures of a told height with so many points, most of which may have most of the seats of one rim."""
+    chance = random.Random(seed)
+    for number in range(count):
+        width = chance.randint(points, points + 2)
+        picture = Picture(width, height)
+        columns = chance.sample(range(1, width + 1), points)
+        rows = chance.sample(range(1, height + 1), points)
+        for name, x, y in zip(chance.sample("abcdefghijklmnopqrstuvwxyz", points), columns, rows):
+            window = chance.choice([(), (), (1, height - 1), (2, height)])
+            picture.put(name, x, y, *([chance.choice(["both", "left"]), *window] if window else []))
+        seats = rim_seats(height)
+        for seat in seats[:height] + chance.sample(seats[height:], chance.randint(0, 2)):
+            picture.open_seat(*seat)
         yield picture
 
 
@@ -165,3 +188,26 @@ def can_sit(picture, names):
 def room_of(picture, names):
     """The open seats that at least one of the points may have."""
     return [seat for seat in picture.seats() if any(picture.may(name, *seat) for name in names)]
+
+
+def exchanges_in(picture, pairs):
+    """All that can be exchanged in a giving, by a plain listing of cells: a dict from two names to the cell."""
+    found = {}
+    for one, other in itertools.combinations(pairs, 2):
+        walk, other_walk = [picture.place_of(pair[0]) + pair[1:] for pair in (one, other)]
+        cell = first_common(picture.width, walk, other_walk)
+        if cell and picture.may(one[0], *other[1:]) and picture.may(other[0], *one[1:]):
+            found[(one[0], other[0])] = cell
+    return found
+
+
+def plain_total(picture, pairs):
+    return sum(len(walked(picture.width, *picture.place_of(name), *seat)) - 1 for name, *seat in pairs)
+
+
+def plainly_kept(picture):
+    names = []
+    for name in names_of(picture):
+        if can_sit(picture, names + [name]):
+            names.append(name)
+    return names
