@@ -85,7 +85,7 @@ def least_pushes(notes, places):
         rise = least_rise(notes[number], places[number])
         if rise is not None:
             pushes[number + 1] = max(0, pushes[number] + rise)
-    for number in reversed(range(len(notes))):
+    for number in range(len(notes) - 1, -1, -1):
         rise = most_rise(notes[number], places[number])
         if rise is not None:
             pushes[number] = max(pushes[number], pushes[number + 1] - rise)

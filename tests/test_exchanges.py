@@ -10,8 +10,8 @@ from rimnotes.least import least
 from rimnotes.meets import is_giving, meetings, total
 from rimnotes.pictures import Picture
 from things import (
-    all_givings, chance_pictures, crowded_pictures, exchanges_in, full_picture, names_of, ordinary_picture,
-    picture_of_points, plain_total, rim_seats, state)
+    all_givings, chance_pictures, crowded_pictures, exchanges_in, full_picture, names_of, one_sided_pictures,
+    ordinary_picture, picture_of_points, plain_total, rim_seats, state)
 
 
 def plain_upright(picture, pairs):
@@ -25,20 +25,6 @@ def plain_upright(picture, pairs):
 def small_pictures(seed):
     yield from chance_pictures(seed, 80, 3, 4)
     yield from crowded_pictures(seed, 25)
-
-
-def one_sided_pictures(seed, count):
-    """Pictures in which several points crowd about few seats of one rim, so that several givings are least."""
-    chance = random.Random(seed)
-    for number in range(count):
-        side = chance.choice(["left", "right"])
-        picture = Picture(6, 8)
-        rows = chance.sample(range(1, 9), 4)
-        for name, x, y in zip("dacb", chance.sample(range(1, 7), 4), rows):
-            picture.put(name, x, y, chance.choice([side, "both"]), *chance.choice([(), (1, 7), (2, 8)]))
-        for row in chance.sample(range(1, 9), 5):
-            picture.open_seat(side, row)
-        yield picture
 
 
 def givings_of(picture):

@@ -24,6 +24,7 @@ METHODS_OF_VALUES = (
     "items join keys ljust lower lstrip partition pop remove replace reverse rfind rjust rpartition rsplit rstrip "
     "setdefault split splitlines startswith strip update upper values zfill bit_length").split()
 WALKED_AT_ONCE = ("zip", "enumerate", "reversed", "range", "items", "keys", "values")
+WALKERS = ("list", "tuple", "dict", "sorted", "sum", "any", "all", "enumerate", "zip")
 
 
 def files():
@@ -159,6 +160,39 @@ class FormTest(unittest.TestCase):
             if isinstance(node, ast.For):
                 self.assertNotIn(called(node.iter), ("set", "frozenset"), (name, node.lineno))
             self.assertNotIsInstance(node, ast.Set, name)
+
+    def test_what_is_walked_stands_where_it_is_walked(self):
+        for name, text in texts():
+            walked = []
+            for node in ast.walk(ast.parse(text)):
+                if isinstance(node, (ast.For, ast.comprehension)):
+                    walked.append(node.iter)
+                if called(node) in WALKERS or (called(node) in ("min", "max", "join") and len(node.args) == 1):
+                    walked.extend(node.args[:1])
+            walked = [ast.dump(node, include_attributes=True) for node in walked]
+            for node in ast.walk(ast.parse(text)):
+                if called(node) in WALKED_AT_ONCE:
+                    self.assertIn(ast.dump(node, include_attributes=True), walked, (name, node.lineno))
+
+    def test_locals_are_not_called_like_classes_of_their_file(self):
+        for name, text in texts():
+            tree = ast.parse(text)
+            made = [node.name for node in tree.body if isinstance(node, ast.ClassDef)]
+            for node in ast.walk(tree):
+                if isinstance(node, ast.Name) and isinstance(node.ctx, ast.Store):
+                    self.assertNotIn(node.id, made, (name, node.lineno))
+
+    def test_names_of_a_files_top_are_bound_once(self):
+        for name, text in texts():
+            bound = []
+            for node in ast.parse(text).body:
+                if isinstance(node, (ast.FunctionDef, ast.ClassDef)):
+                    bound.append(node.name)
+                if isinstance(node, ast.ImportFrom):
+                    bound.extend(entry.name for entry in node.names)
+                if isinstance(node, ast.Assign):
+                    bound.append(node.targets[0].id)
+            self.assertEqual(sorted(set(bound)), sorted(bound), name)
 
     def test_files_draw_from_one_another_one_way(self):
         drawn = {}

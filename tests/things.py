@@ -170,6 +170,20 @@ def crowded_pictures(seed, count, points=3, height=4):
         yield picture
 
 
+def one_sided_pictures(seed, count):
+    """Pictures in which several points crowd about few seats of one rim, so that several givings are least."""
+    chance = random.Random(seed)
+    for number in range(count):
+        side = chance.choice(["left", "right"])
+        picture = Picture(6, 8)
+        rows = chance.sample(range(1, 9), 4)
+        for name, x, y in zip("dacb", chance.sample(range(1, 7), 4), rows):
+            picture.put(name, x, y, chance.choice([side, "both"]), *chance.choice([(), (1, 7), (2, 8)]))
+        for row in chance.sample(range(1, 9), 5):
+            picture.open_seat(side, row)
+        yield picture
+
+
 def names_of(picture):
     return [point[0] for point in picture.points()]
 
@@ -211,3 +225,40 @@ def plainly_kept(picture):
         if can_sit(picture, names + [name]):
             names.append(name)
     return names
+
+
+def chance_pairs(picture, chance):
+    """Pairs of some of the points, in any order, with any seats of the rims, open or shut."""
+    names = names_of(picture)
+    some = chance.sample(names, chance.randint(0, len(names)))
+    return [(name, *seat) for name, seat in zip(some, chance.sample(rim_seats(picture.height), len(some)))]
+
+
+def mirrored_pairs(pairs):
+    return [(name, "right" if side == "left" else "left", row) for name, side, row in pairs]
+
+
+def turned_pairs(pairs, height):
+    return [(name, side, height + 1 - row) for name, side, row in pairs]
+
+
+def plain_drawing(picture, pairs):
+    """The drawing, sign by sign, as [81] tells each."""
+    return ["".join(plain_sign(picture, pairs, (column, row)) for column in range(picture.width + 2))
+            for row in range(1, picture.height + 1)]
+
+
+def plain_sign(picture, pairs, cell):
+    column, row = cell
+    if column in (0, picture.width + 1):
+        side = "left" if column == 0 else "right"
+        named = [pair[0] for pair in pairs if pair[1:] == (side, row)]
+        return named[0] if named else ("." if (side, row) in picture.seats() else " ")
+    for point in picture.points():
+        if point[1:3] == cell:
+            return point[0]
+    through = [pair for pair in pairs if cell in walked(picture.width, *picture.place_of(pair[0]), *pair[1:])]
+    if len(through) != 1:
+        return "#" if through else " "
+    in_column, in_row = picture.place_of(through[0][0])[0] == column, through[0][2] == row
+    return "+" if in_column and in_row else ("|" if in_column else "-")
